@@ -1,0 +1,1 @@
+"""Noteless: when a player on a board can do without memory."""
