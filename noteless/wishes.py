@@ -212,7 +212,7 @@ def _joint_step(left, right, joint, letter, sided):
     right_mark = right.marked(second, letter)
     if not sided:
         return (first_after, second_after, 0), left_mark or right_mark
-    # Side 0 waits for a mark of left, side 1 for one of right, so each mark stands for one of both.
+    # Side 0 waits for a mark of left, side 1 for one of right, so there is a mark for each time that both had one.
     if side == 0:
         return (first_after, second_after, 1 if left_mark else 0), False
     return (first_after, second_after, 0 if right_mark else 1), right_mark
