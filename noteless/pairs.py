@@ -12,9 +12,14 @@ def refuse_other_letters(left, right):
 def parting(left, right):
     """None, or a lasso that is good for `left` and bad for `right`."""
     refuse_other_letters(left, right)
-    stems = _words_from(left, right, (left.start, right.start), False)
+    return parting_from(left, right, (left.start, right.start))
+
+
+def parting_from(left, right, start):
+    """None, or a lasso that is good for `left` and bad for `right` if they are read from the pair `start`."""
+    stems = words_from(left, right, start, False)
     for pair, stem in stems.items():
-        loop = _winning_loop(left, right, pair)
+        loop = winning_loop(left, right, pair)
         if loop is not None:
             return stem, loop
     return None
@@ -25,18 +30,18 @@ def same(left, right):
     return parting(left, right) is None and parting(right, left) is None
 
 
-def _winning_loop(left, right, pair):
+def winning_loop(left, right, pair):
     """A word from the pair back to it, at whose first letter `left` takes a mark and in which `right` takes none."""
     for letter in left.letters:
         if left.marked(pair[0], letter) and not right.marked(pair[1], letter):
             after = (left[pair[0], letter], right[pair[1], letter])
-            back = _words_from(left, right, after, True).get(pair)
+            back = words_from(left, right, after, True).get(pair)
             if back is not None:
                 return letter + back
     return None
 
 
-def _words_from(left, right, start, quiet):
+def words_from(left, right, start, quiet):
     """For each pair that can be reached from the pair `start` a shortest word; if quiet, `right` takes no mark."""
     words = {start: ""}
     queue = [start]

@@ -12,6 +12,10 @@ INTERFACE = {
     "pairs": {"parting": [], "same": []},
     "wishes": {"Wish": ["__init__", "read", "marks", "text", "marked", "remark", "reach", "__getitem__", "__setitem__", "__rshift__",
                         "__contains__", "__or__", "__and__", "__ior__", "__le__", "__lt__"], "either": [], "both": []},
+    "leftovers": {"classes": [], "ladder": [], "least": []},
+    "kinds": {"crossing": [], "rise": [], "laps": [], "needs_notes": []},
+    "boards": {"Board": ["__init__", "read", "valid_name", "add", "give", "remove", "change", "trial", "owner", "copy", "text", "table",
+                         "__getitem__", "__setitem__", "__contains__", "__len__", "__iter__"], "Trial": ["__enter__", "__exit__"]},
 }
 LIBRARY = {"heapq", "math", "itertools", "collections", "__future__"}
 
