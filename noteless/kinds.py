@@ -49,7 +49,18 @@ def laps(wish):
 
 def needs_notes(wish):
     """Tell whether the wish is of one of the three kinds."""
-    return crossing(wish) is not None or rise(wish) is not None or laps(wish) is not None
+    return kind_of(wish) is not None
+
+
+def kind_of(wish):
+    """The name of the first of the three kinds to which the wish belongs, or None."""
+    if crossing(wish) is not None:
+        return "crossing"
+    if rise(wish) is not None:
+        return "rise"
+    if laps(wish) is not None:
+        return "laps"
+    return None
 
 
 def _shortest_walk(wish, small, home):

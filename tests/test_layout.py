@@ -16,6 +16,9 @@ INTERFACE = {
     "kinds": {"crossing": [], "rise": [], "laps": [], "needs_notes": []},
     "boards": {"Board": ["__init__", "read", "valid_name", "add", "give", "remove", "change", "trial", "owner", "copy", "text", "table",
                          "__getitem__", "__setitem__", "__contains__", "__len__", "__iter__"], "Trial": ["__enter__", "__exit__"]},
+    "plans": {"Plan": ["__init__", "__call__", "choices"], "Turns": ["__init__", "__call__"], "play": [], "kept_to": []},
+    "games": {"won": [], "solve": [], "judge": []},
+    "breakers": {"Breaker": ["__init__"], "breaking": []},
 }
 LIBRARY = {"heapq", "math", "itertools", "collections", "__future__"}
 
